@@ -28,27 +28,69 @@ func Leads(h []api.Cell, at int) iter.Seq[int] {
 	}
 }
 
+// far: how many cells are gone through, one to the next, till their end is noted.
+const far = 16
+
+// View of a heap on which variables become something, but nothing is taken back. Where cells lead to is noted if it is far, because a heap can be one long line, which would be gone through for each part of a term.
+type View struct {
+	heap []api.Cell
+	ends map[int]int
+}
+
+// On a heap: a view.
+func On(h []api.Cell) *View {
+	return &View{heap: h, ends: map[int]int{}}
+}
+
 // Deref: where CellRefs lead to.
-func Deref(h []api.Cell, at int) int {
-	for h[at].Kind == api.CellRef && h[at].N != at {
-		at = h[at].N
+func (v *View) Deref(at int) int {
+	end := at
+	for n := 0; ; n++ {
+		to := v.next(end)
+		if to == end {
+			if n > far {
+				v.note(at, end)
+			}
+			return end
+		}
+		end = to
 	}
-	return at
+}
+
+// next: where a cell leads to, or its end as it was noted; itself, if it is no CellRef to another one.
+func (v *View) next(at int) int {
+	c := v.heap[at]
+	if c.Kind == api.CellFn {
+		return at
+	}
+	if to, ok := v.ends[at]; ok {
+		return to
+	}
+	return c.N
+}
+
+// note the end of all cells on the way from one.
+func (v *View) note(at, end int) {
+	for at != end {
+		to := v.next(at)
+		v.ends[at] = end
+		at = to
+	}
 }
 
 // args: the cells of the arguments of what stands at a cell; a variable has none.
-func args(h []api.Cell, at int) iter.Seq[int] {
-	return Leads(h, Deref(h, at))
+func (v *View) args(at int) iter.Seq[int] {
+	return Leads(v.heap, v.Deref(at))
 }
 
 // Room: how much of n is left behind all parts of what stands at cells; below 0, if there are more than n.
 // It counts no further than that, because few cells can be a term of very many parts.
-func Room(h []api.Cell, n int, all iter.Seq[int]) int {
+func (v *View) Room(n int, all iter.Seq[int]) int {
 	for at := range all {
 		if n == 0 {
 			return -1
 		}
-		n = Room(h, n-1, args(h, at))
+		n = v.Room(n-1, v.args(at))
 		if n < 0 {
 			return n
 		}
@@ -57,14 +99,14 @@ func Room(h []api.Cell, n int, all iter.Seq[int]) int {
 }
 
 // Read the term at a cell; its variables have the number that a function tells of their cell.
-func Read(h []api.Cell, at int, number func(at int) int) api.Term {
-	at = Deref(h, at)
-	if h[at].Kind == api.CellRef {
+func (v *View) Read(at int, number func(at int) int) api.Term {
+	at = v.Deref(at)
+	if v.heap[at].Kind == api.CellRef {
 		return api.Term{Var: number(at)}
 	}
-	t := api.Term{Name: h[at].Name}
-	for arg := range Leads(h, at) {
-		t.Args = append(t.Args, Read(h, arg, number))
+	t := api.Term{Name: v.heap[at].Name}
+	for arg := range Leads(v.heap, at) {
+		t.Args = append(t.Args, v.Read(arg, number))
 	}
 	return t
 }

@@ -4,7 +4,7 @@ import "palisade/api"
 
 // making two terms the same: on which heap, which cells were bound, and how much work is left.
 type making struct {
-	heap  []api.Cell
+	*View
 	bound []int
 	left  int
 }
@@ -12,7 +12,7 @@ type making struct {
 // Same: what stands at two cells is made the same, on this heap: the cells that were bound, in order; false, if that can't be; how much work was done (more than most, if that is why it can't be: it is done no further).
 // What was bound till then stays: who goes on goes back.
 func Same(h []api.Cell, a, b, most int) ([]int, bool, int) {
-	m := &making{heap: h, left: most}
+	m := &making{View: On(h), left: most}
 	ok := m.same(a, b)
 	return m.bound, ok, most - m.left
 }
@@ -25,7 +25,7 @@ func (m *making) look() bool {
 
 // same: a pair of terms.
 func (m *making) same(a, b int) bool {
-	a, b = Deref(m.heap, a), Deref(m.heap, b)
+	a, b = m.Deref(a), m.Deref(b)
 	s, t := m.heap[a], m.heap[b]
 	switch {
 	case !m.look():
@@ -63,7 +63,7 @@ func (m *making) bind(v, t int) bool {
 
 // lacks: does a variable not stand in a term? False, too, if no work is left.
 func (m *making) lacks(t, v int) bool {
-	t = Deref(m.heap, t)
+	t = m.Deref(t)
 	if !m.look() || t == v {
 		return false
 	}

@@ -3,10 +3,12 @@ package heap_test
 import (
 	"fmt"
 	"math"
+	"math/rand"
 	"reflect"
 	"slices"
 	"strings"
 	"testing"
+	"time"
 
 	"palisade/api"
 	"palisade/heap"
@@ -374,6 +376,51 @@ func TestUnifyWork(t *testing.T) {
 		if ok != c.ok || work != c.work || e != c.want || ok != (len(h) > 0) || !ok && len(bound) > 0 {
 			t.Errorf("E4: %s: %v, work %d, error %d, and must be %v, work %d, error %d; %d cells, %d bound", c.about, ok, work, e, c.ok, c.work, c.want, len(h), len(bound))
 		}
+	}
+}
+
+// TestLineToWhatIsBound: what a long line leads to becomes something while the line is gone through twice.
+func TestLineToWhatIsBound(t *testing.T) {
+	for _, c := range []struct {
+		last  string // the second argument of f(a, last), which is held against f(V1, V1)
+		bound []int
+		work  int
+	}{{"a", []int{8}, 4}, {"b", nil, 4}} {
+		h := []api.Cell{fn("f", 2), ref(9), ref(10), fn("f", 2), ref(6), ref(7), fn("a", 0), fn(c.last, 0), ref(8)}
+		for len(h) < 99 {
+			h = append(h, ref(len(h)+1))
+		}
+		h = append(h, ref(8))
+		after, bound, ok, work, e := heap.Unify(h, 0, 3)
+		if ok != (c.bound != nil) || !slices.Equal(bound, c.bound) || work != c.work || e != api.OK || ok && after[8] != ref(6) {
+			t.Errorf("E4: %v %v, work %d, error %d, and must be %v, work %d", ok, bound, work, e, c.bound, c.work)
+		}
+	}
+}
+
+// TestLongLines: each part of a term leads through all cells of a heap: that is not gone through each time, or it would take minutes.
+func TestLongLines(t *testing.T) {
+	begin := time.Now()
+	for _, n := range []int{6, 10} { // 127 and 2047 parts
+		h := doubled(n)
+		last := len(h) - 1
+		h = append(h, make([]api.Cell, api.MaxHeap-len(h))...)
+		line := rand.New(rand.NewSource(1)).Perm(api.MaxHeap - last - 1)
+		h[last] = ref(last + 1 + line[0])
+		for i, at := range line[:len(line)-1] {
+			h[last+1+at] = ref(last + 1 + line[i+1])
+		}
+		h[last+1+line[len(line)-1]] = fn("a", 0)
+		_, _, ok, work, e := heap.Unify(h, 0, 0)
+		if want := 2<<n - 1; !ok || work != want || e != api.OK {
+			t.Errorf("P1: %v, work %d, error %d, and must be work %d", ok, work, e, want)
+		}
+		if _, _, e := heap.Read(h, 0); (e == api.ErrMany) != (n == 10) {
+			t.Errorf("P1: doubled %d times: error %d of Read", n, e)
+		}
+	}
+	if took := time.Since(begin); took > time.Minute/4 {
+		t.Errorf("P1: it took %v", took)
 	}
 }
 

@@ -132,6 +132,26 @@ func (d dice) cells(n, seldom int) []api.Cell {
 	return h
 }
 
+// stretched: the same heap, but that some cells lead where they do by way of long lines, into which others come from the side.
+func (d dice) stretched(h []api.Cell) []api.Cell {
+	lines := len(h)
+	for at := range lines {
+		if h[at].Kind != api.CellRef || h[at].N == at || d.Intn(2) == 0 {
+			continue
+		}
+		to := h[at].N
+		for range 10 + d.Intn(30) {
+			h = append(h, ref(to))
+			to = len(h) - 1
+		}
+		h[at].N = to
+	}
+	for range d.Intn(4) {
+		h = append(h, ref(d.Intn(len(h))))
+	}
+	return h
+}
+
 // TestCheckHeldAgainstPlain: E1 on heaps that are drawn.
 func TestCheckHeldAgainstPlain(t *testing.T) {
 	d := dice{rand.New(rand.NewSource(7))}
@@ -164,8 +184,11 @@ func variables(h []api.Cell) []int {
 func TestUnifyHeldAgainstTerms(t *testing.T) {
 	d := dice{rand.New(rand.NewSource(8))}
 	yes, no := 0, 0
-	for range 40000 {
+	for i := range 40000 {
 		h := d.cells(2+d.Intn(11), 1000)
+		if i%2 == 0 {
+			h = d.stretched(h)
+		}
 		vars := variables(h)
 		a, b := d.Intn(len(h)), d.Intn(len(h))
 		if heap.Check(h) != api.OK || len(vars) > api.MaxVar {
@@ -221,8 +244,11 @@ func heldBound(t *testing.T, h, after []api.Cell, bound []int) {
 // TestReadHeldAgainstPlain: E2 on heaps that are drawn.
 func TestReadHeldAgainstPlain(t *testing.T) {
 	d := dice{rand.New(rand.NewSource(9))}
-	for range 5000 {
+	for i := range 5000 {
 		h := d.cells(1+d.Intn(11), 1000)
+		if i%2 == 0 {
+			h = d.stretched(h)
+		}
 		if heap.Check(h) != api.OK {
 			continue
 		}

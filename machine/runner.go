@@ -70,7 +70,7 @@ func (r *runner) settle() {
 
 // take the first goal.
 func (r *runner) take(g api.Goal) {
-	at := cells.Deref(r.Heap, g.At)
+	at := cells.On(r.Heap).Deref(g.At)
 	switch r.Heap[at] {
 	case cells.Free(at):
 		r.End = api.EndWrong
@@ -112,7 +112,7 @@ func (r *runner) same(a, b int) bool {
 // try the clauses from one on for the first goal: is there one that fits? If not, all is as it was.
 func (r *runner) try(from int) bool {
 	g := r.Goals[r.First-1]
-	at := cells.Deref(r.Heap, g.At)
+	at := cells.On(r.Heap).Deref(g.At)
 	name := r.Heap[at]
 	was := api.Choice{Goal: r.First, Heap: len(r.Heap), Trail: len(r.Trail), Goals: len(r.Goals)}
 	for i := r.fit(name, from); i >= 0 && r.End == 0; i = r.fit(name, i+1) {
@@ -192,14 +192,15 @@ func (r *runner) back() {
 
 // answer: no goals are left.
 func (r *runner) answer() {
-	if cells.Room(r.Heap, api.MaxShow, slices.Values(r.Query)) < 0 {
+	v := cells.On(r.Heap)
+	if v.Room(api.MaxShow, slices.Values(r.Query)) < 0 {
 		r.End = api.EndGreat
 		return
 	}
 	names := cells.NewNames()
 	var a api.Answer
 	for _, at := range r.Query {
-		a = append(a, cells.Read(r.Heap, at, names.Number))
+		a = append(a, v.Read(at, names.Number))
 	}
 	r.Answers = append(r.Answers, a)
 	if len(r.Answers) >= api.MaxAnswers {
