@@ -1,4 +1,4 @@
-// Package cells: terms that stand on a heap, and making two of them the same there: the common ground of heap and machine. Whoever calls has checked the heap, and hands in cells that are there.
+// Package cells: terms that stand on a heap, and making two of them the same there: the common ground of heap, machine and collect. Whoever calls has checked the heap, and hands in cells that are there.
 package cells
 
 import (

@@ -4,6 +4,7 @@ import (
 	"strings"
 
 	"palisade/api"
+	"palisade/spell"
 )
 
 // maxText is how many bytes a text may have.
@@ -80,8 +81,8 @@ func (r *reader) clause() api.Clause {
 // terms: one or more.
 func (r *reader) terms() []api.Term {
 	l := []api.Term{r.term()}
-	for r.ahead(comma[:1]) {
-		r.must(comma)
+	for r.ahead(spell.Comma[:1]) {
+		r.must(spell.Comma)
 		l = append(l, r.term())
 	}
 	return l
@@ -89,14 +90,14 @@ func (r *reader) terms() []api.Term {
 
 // term: a variable, or a name with its arguments.
 func (r *reader) term() api.Term {
-	if r.ahead(sign) {
+	if r.ahead(spell.Sign) {
 		return api.Term{Var: r.variable()}
 	}
 	t := api.Term{Name: r.name()}
-	if r.ahead(open) {
-		r.must(open)
+	if r.ahead(spell.Open) {
+		r.must(spell.Open)
 		t.Args = r.terms()
-		r.must(shut)
+		r.must(spell.Shut)
 	}
 	return t
 }
@@ -104,7 +105,7 @@ func (r *reader) term() api.Term {
 // variable: its number. A nought can't be the first digit, nor can there be a third one.
 func (r *reader) variable() int {
 	digit := func(b byte) bool { return '0' <= b && b <= '9' }
-	r.must(sign)
+	r.must(spell.Sign)
 	n := int(r.one(func(b byte) bool { return digit(b) && b != '0' }) - '0')
 	if r.sees(digit) {
 		n = 10*n + int(r.one(digit)-'0')

@@ -2,19 +2,15 @@
 package text
 
 import (
-	"strconv"
 	"strings"
 
 	"palisade/api"
+	"palisade/spell"
 	"palisade/term"
 )
 
-// What stands between parts of a text; reading and writing must agree on it.
+// What stands between parts of clauses; reading and writing must agree on it.
 const (
-	sign  = "V"    // ahead of a variable's number
-	open  = "("    // ahead of arguments
-	comma = ", "   // between terms
-	shut  = ")"    // behind arguments
 	given = " :- " // ahead of a body
 	stop  = ".\n"  // behind a clause
 )
@@ -26,10 +22,10 @@ func Print(p api.Program) (string, api.Errno) {
 	}
 	var b strings.Builder
 	for _, c := range p {
-		write(&b, c.Head)
+		spell.Terms(&b, c.Head)
 		if len(c.Body) > 0 {
 			b.WriteString(given)
-			write(&b, c.Body...)
+			spell.Terms(&b, c.Body...)
 		}
 		b.WriteString(stop)
 	}
@@ -45,7 +41,7 @@ func Goals(q []api.Term) (string, api.Errno) {
 		return api.NameTrue, api.OK
 	}
 	var b strings.Builder
-	write(&b, q...)
+	spell.Terms(&b, q...)
 	return b.String(), api.OK
 }
 
@@ -57,24 +53,4 @@ func Parse(s string) (api.Program, int, api.Errno) {
 // ParseGoals: the goals of a text.
 func ParseGoals(s string) ([]api.Term, int, api.Errno) {
 	return parse(s, (*reader).goals, term.Query)
-}
-
-// write terms.
-func write(b *strings.Builder, terms ...api.Term) {
-	for i, t := range terms {
-		if i > 0 {
-			b.WriteString(comma)
-		}
-		if t.Var != 0 {
-			b.WriteString(sign)
-			b.WriteString(strconv.Itoa(t.Var))
-			continue
-		}
-		b.WriteString(t.Name)
-		if len(t.Args) > 0 {
-			b.WriteString(open)
-			write(b, t.Args...)
-			b.WriteString(shut)
-		}
-	}
 }

@@ -1,4 +1,5 @@
-package machine
+// Package copies: machines that share no memory with others: the common ground of machine and collect.
+package copies
 
 import (
 	"slices"
@@ -12,7 +13,24 @@ const (
 	maxParts = (1<<31 - 1) / 48
 )
 
-// bounded: can answers be copied? Nothing is said of those of a machine, and lists can be laid so that a term stands in its own arguments.
+// Of a machine: one that shares no memory with it; false, if its answers are beyond all bounds. (Nothing is said of them when a machine is checked, and lists can be laid so that a term stands in its own arguments.)
+func Of(m api.Machine) (api.Machine, bool) {
+	if !bounded(m.Answers) {
+		return api.Machine{}, false
+	}
+	m.Heap = slices.Clone(m.Heap)
+	m.Goals = slices.Clone(m.Goals)
+	m.Choices = slices.Clone(m.Choices)
+	m.Trail = slices.Clone(m.Trail)
+	m.Query = slices.Clone(m.Query)
+	m.Answers = slices.Clone(m.Answers)
+	for i, a := range m.Answers {
+		m.Answers[i] = terms(a)
+	}
+	return m, true
+}
+
+// bounded: can answers be copied?
 func bounded(answers []api.Answer) bool {
 	n := maxParts
 	for _, a := range answers {
@@ -36,21 +54,6 @@ func room(n, deep int, terms []api.Term) int {
 		}
 	}
 	return n
-}
-
-// copied: a machine that shares no memory with another.
-func copied(m api.Machine) api.Machine {
-	m.Heap = slices.Clone(m.Heap)
-	m.Goals = slices.Clone(m.Goals)
-	m.Choices = slices.Clone(m.Choices)
-	m.Trail = slices.Clone(m.Trail)
-	m.Query = slices.Clone(m.Query)
-	var l []api.Answer
-	for _, a := range m.Answers {
-		l = append(l, terms(a))
-	}
-	m.Answers = l
-	return m
 }
 
 // terms that are new through and through.
