@@ -62,7 +62,7 @@ func circle(h []api.Cell) bool {
 			into[to]++
 		}
 	}
-	var free []int
+	free := make([]int, 0, len(h))
 	for at, n := range into {
 		if n == 0 {
 			free = append(free, at)
